@@ -1,0 +1,1 @@
+"""Unknowncalls: loops that call what nobody knows, alike for all meanings."""

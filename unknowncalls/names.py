@@ -1,7 +1,7 @@
 """The names that loops use, and what is known of them."""
 
-from unknowncalls.closing import Groups, close, is_possible
 from unknowncalls.errors import BadFact, BadName, BadNumber, BadPair, BadRule, NoWorld
+from unknowncalls.facts import known_facts
 from unknowncalls.words import as_integer, as_list, as_name, as_text
 
 
@@ -118,15 +118,8 @@ class Names:
         return name if name in self.constants else None
 
     def _has_world(self):
-        values = {name: value for value, name in enumerate(self.constants)}
-        facts = [(name, tuple([values[given] for given in constants]), worth)
-                 for name, constants, worth in self._facts]
-        calls = [(name, given, values[worth]) for name, given, worth in facts if name in self._functions]
-        answers = [fact for fact in facts if fact[0] in self._tests]
-        groups = Groups(len(values))
-        close(groups, self._rules, calls, answers)
-        unlike = [(values[name], values[other]) for name, other in self._apart]
-        return is_possible(groups, self._rules, answers, unlike)
+        known = known_facts(self.constants, self._functions, self._rules, self._facts, self._apart)
+        return known.is_possible
 
 
 def _check_names(things):

@@ -32,3 +32,14 @@ def as_integer(thing):
 def as_list(thing):
     """A new list of what is in a list or a tuple, None for anything else."""
     return list(thing) if isinstance(thing, (list, tuple)) else None
+
+
+def as_pairs(thing):
+    """A new list of the pairs of a key and a value of a dict, None for anything else."""
+    return list(thing.items()) if isinstance(thing, dict) else None
+
+
+def as_below(thing, end):
+    """The thing as a plain integer from 0 on and below an end, None if it is none."""
+    number = as_integer(thing)
+    return None if number is None or not 0 <= number < end else number

@@ -1,0 +1,91 @@
+"""Which held values cannot be equal, by all that is known.
+
+Most pairs are told apart, or found possible, by what follows at once when they are joined; the
+others are joined on trial.
+"""
+
+from unknowncalls.closing import EITHER_WAY, GONE, bits
+
+
+def impossible_pairs(known, held):
+    """The pairs of held leaders, the lesser one first, that cannot be equal."""
+    found, following = {}, {}
+    for rows in _slots(known, known.said).values():
+        for pair, truth, word in _meetings(rows, held):
+            if truth != word:
+                found[pair] = True
+    calls = {key: GONE if result == GONE else known.leads[result] for key, result in known.calls.items()}
+    for rows in list(_slots(known, calls).values()) + _share_rows(known):
+        for pair, result, worth in _meetings(rows, held):
+            if result != worth and GONE not in (result, worth):
+                following.setdefault(pair, []).append((result, worth))
+    for one, other in _told_together(known):
+        if one in held and other in held:
+            following.setdefault((min(one, other), max(one, other)), []).append((one, one))
+    used = _used(known)
+    for pair, joinings in following.items():
+        if pair not in found and not _can_be(known, used, pair, joinings):
+            found[pair] = True
+    return list(found)
+
+
+def _can_be(known, used, pair, joinings):
+    """Whether a pair can be equal, from whose joining these joinings follow at once."""
+    result, worth = joinings[0]
+    if known.unlikes[result] >> worth & 1:
+        return False
+    # Nothing more follows from a joining of two values that nothing is asked or called of.
+    if len(joinings) == 1 and not used >> result & 1 and not used >> worth & 1:
+        return True
+    return known.can_be_equal(pair[0], pair[1])
+
+
+def _meetings(rows, held):
+    """The pairs of held values that meet in a slot, each with what is known of the one and the other."""
+    rows = [row for row in rows if row[0] in held]
+    return [((one, other), worth, word) if one < other else ((other, one), worth, word)
+            for at, (one, worth) in enumerate(rows) for other, word in rows[at + 1:]]
+
+
+def _slots(known, table):
+    """The lists of pairs of a value and what is known of it, slot by slot.
+
+    A slot is a name and a place, with the other value that stands beside the one at this
+    place: from the joining of two values something follows in the slots that both have.
+    """
+    slots = {}
+    for key, worth in table.items():
+        name, one, other = key[0], key[1], key[-1]
+        if one == other:
+            slots.setdefault(name, []).append((one, worth))
+        else:
+            place = 1 if known.told_rules.get(name) in EITHER_WAY else 2
+            slots.setdefault((name, 1, other), []).append((one, worth))
+            slots.setdefault((name, place, one), []).append((other, worth))
+    return slots
+
+
+def _share_rows(known):
+    """The pairs of each share, as those of a slot."""
+    return [[(known.leads[value], GONE if result == GONE else known.leads[result]) for value, result in share]
+            for share in known.shares]
+
+
+def _told_together(known):
+    """The pairs of values of which something is told together: more can follow from their joining."""
+    pairs = [key[1:] for key in [*known.calls, *known.said] if len(key) == 3 and key[1] != key[2]]
+    return pairs + [(value, other) for value, up in enumerate(known.ups) if up for other in bits(up)]
+
+
+def _used(known):
+    """The values that something is known of, as a mask, but for that they are results."""
+    used = 0
+    for key in [*known.calls, *known.said]:
+        used |= 1 << key[1] | 1 << key[-1]
+    for rows in _share_rows(known):
+        for value, _ in rows:
+            used |= 1 << value
+    for value, up in enumerate(known.ups):
+        if up:
+            used |= 1 << value | up
+    return used

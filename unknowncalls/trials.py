@@ -10,18 +10,15 @@ from unknowncalls.closing import EITHER_WAY, GONE, bits
 def impossible_pairs(known, held):
     """The pairs of held leaders, the lesser one first, that cannot be equal."""
     found, following = {}, {}
-    for rows in _slots(known, known.said).values():
-        for pair, truth, word in _meetings(rows, held):
-            if truth != word:
-                found[pair] = True
+    for pair, truth, word in _meetings(known, known.said, [], held):
+        if truth != word:
+            found[pair] = True
     calls = {key: GONE if result == GONE else known.leads[result] for key, result in known.calls.items()}
-    for rows in list(_slots(known, calls).values()) + _share_rows(known):
-        for pair, result, worth in _meetings(rows, held):
-            if result != worth and GONE not in (result, worth):
-                following.setdefault(pair, []).append((result, worth))
-    for one, other in _told_together(known):
-        if one in held and other in held:
-            following.setdefault((min(one, other), max(one, other)), []).append((one, one))
+    for pair, result, worth in _meetings(known, calls, _share_rows(known), held):
+        if result != worth and GONE not in (result, worth):
+            following.setdefault(pair, []).append((result, worth))
+    for pair, value in _between(known, held):
+        following.setdefault(pair, []).append((pair[0], value))
     used = _used(known)
     for pair, joinings in following.items():
         if pair not in found and not _can_be(known, used, pair, joinings):
@@ -40,11 +37,25 @@ def _can_be(known, used, pair, joinings):
     return known.can_be_equal(pair[0], pair[1])
 
 
-def _meetings(rows, held):
-    """The pairs of held values that meet in a slot, each with what is known of the one and the other."""
-    rows = [row for row in rows if row[0] in held]
-    return [((one, other), worth, word) if one < other else ((other, one), worth, word)
-            for at, (one, worth) in enumerate(rows) for other, word in rows[at + 1:]]
+def _meetings(known, table, shares, held):
+    """The pairs of held values from whose joining something follows, each with what is known of both."""
+    found = []
+    for rows in list(_slots(known, table).values()) + shares:
+        rows = [row for row in rows if row[0] in held]
+        for at, (one, worth) in enumerate(rows):
+            for other, word in rows[at + 1:]:
+                found.append((_ascending(one, other), worth, word))
+    for key in table:
+        if len(key) == 3 and key[1] != key[2] and key[1] in held and key[2] in held:
+            name, one, other = key
+            for same in ((name, one, one), (name, other, other), (name, other, one)):
+                if same in table:
+                    found.append((_ascending(one, other), table[key], table[same]))
+    return found
+
+
+def _ascending(one, other):
+    return (one, other) if one < other else (other, one)
 
 
 def _slots(known, table):
@@ -71,10 +82,17 @@ def _share_rows(known):
             for share in known.shares]
 
 
-def _told_together(known):
-    """The pairs of values of which something is told together: more can follow from their joining."""
-    pairs = [key[1:] for key in [*known.calls, *known.said] if len(key) == 3 and key[1] != key[2]]
-    return pairs + [(value, other) for value, up in enumerate(known.ups) if up for other in bits(up)]
+def _between(known, held):
+    """The pairs of held values of which one is not behind the other, each with the values between both."""
+    if not known.is_ordered:
+        return []
+    found = []
+    for low in held:
+        for high in bits(known.ups[low] & ~known.unlikes[low]):
+            if high in held:
+                found.extend([(_ascending(low, high), value) for value in bits(known.ups[low])
+                              if known.ups[value] >> high & 1])
+    return found
 
 
 def _used(known):

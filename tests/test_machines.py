@@ -11,6 +11,7 @@ from unknowncalls.errors import BadMachine, UnlikeNames
 from unknowncalls.loops import Loop
 from unknowncalls.machines import Machine, parting_in
 from unknowncalls.names import Names
+from unknowncalls.partition import coarsest
 from unknowncalls.running import deeds
 from unknowncalls.worlds import World
 
@@ -303,6 +304,26 @@ class PartingTest(unittest.TestCase):
         self.assertIsNone(Machine(loop([], [tell("a")]), WORLD).parting(Machine(Loop(names, [], [tell("b")], []), world)))
 
 
+class PartitionTest(unittest.TestCase):
+    def test_as_found_plainly(self):
+        chance = random.Random(46)
+        for _ in range(1500):
+            size, letters = chance.randrange(1, 25), chance.randrange(1, 4)
+            kinds = [(chance.randrange(3),) for _ in range(chance.choice((2, 4, size)))]
+            rows = [[chance.randrange(size) for _ in range(letters)] for _ in kinds]
+            picks = [chance.randrange(len(kinds)) for _ in range(size)]
+            outputs = [kinds[pick] for pick in picks]
+            moves = [rows[pick] if chance.randrange(5) else [chance.randrange(size) for _ in range(letters)] for pick in picks]
+            told, parts = coarsest(outputs, moves), outputs
+            for _ in range(size):
+                rows_of = [(parts[at], *[parts[to] for to in moves[at]]) for at in range(size)]
+                numbers = {row: at for at, row in enumerate(dict.fromkeys(rows_of))}
+                parts = [(numbers[row],) for row in rows_of]
+            pairs = set(zip(told, parts))
+            self.assertEqual(len(pairs), len(set(told)))
+            self.assertEqual(len(pairs), len(set(parts)))
+
+
 class LargeTest(unittest.TestCase):
     def test_many_states(self):
         names = Names(["a", "b"], {"f": 1}, {}, {"tell": 1, "get": 0})
@@ -311,6 +332,10 @@ class LargeTest(unittest.TestCase):
         self.assertEqual(len(Machine(one, world)), 4 ** 6)
         self.assertEqual(len(parting_in(world, one, two)[0]), 4 ** 6)
         self.assertEqual(Machine(one, world).parting(Machine(two, world)), [0] * 4 ** 6)
+
+    def test_results_that_no_register_takes(self):
+        one = loop([], [("do", None, "get")] * 18, [tell("a")])
+        self.assertIsNone(parting_in(World(NAMES, 4, {"a": 0, "b": 1}), one, one))
 
     def test_many_results(self):
         registers = ["r" + letter for letter in "abcde"]

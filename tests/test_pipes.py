@@ -71,6 +71,21 @@ class PipedTest(Case):
         self.assertEqual(piped(one=one, other=other, deed="tell"), loop(
             [("do", "pa", "d"), ("put", "x", "a")], [("do", None, "say", "x")], [tell("pa")]))
 
+    def test_words_of_statements_as_registers(self):
+        start = [("put", "ask", "a"), ("put", "put", "b"), ("call", "call", "f", "ask")]
+        turn = [("if", ("ask", "p", "put"), [("put", "put", "item")], [("call", "then", "g", "ask", "call")])]
+        told = piped(loop([], [tell("item")]), loop(start, turn), "tell")
+        self.assertEqual(told, loop(
+            [("put", "pa", "a"), ("put", "pc", "b"), ("call", "pd", "f", "pa")],
+            [("if", ("ask", "p", "pc"), [("put", "pc", "item")], [("call", "pe", "g", "pa", "pd")])]))
+
+    def test_what_is_done_on_all_ways_stands_once(self):
+        other = loop([("put", "x", "a")], [
+            ("if", ("ask", "p", "item"), [("put", "x", "item")], []), ("do", None, "say", "x"),
+            ("if", ("ask", "p", "x"), [("do", None, "d")], [("leave",)]), ("do", None, "say", "item")], [], NAMES)
+        told = piped(loop([], [tell("item")], [], NAMES), other, "tell")
+        self.assertEqual(str(told.section("turn")).count("say"), 2)
+
     def test_many_new_names(self):
         letters = "abcdefghijklmnopqrstuvwxyz"
         registers = ["k" + letter for letter in letters] + ["m" + letter for letter in letters[:10]]

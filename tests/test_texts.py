@@ -148,6 +148,8 @@ class ReadTest(Case):
         with self.assertRaises(BadStatement) as caught:
             read_loop(NAMES, text)
         self.assertEqual(caught.exception.place, ("end", 4))
+        text, _ = text_with("turn", ["  x = g(f(a), f(b))", "  if p(a)", "    leave", "  else", "    leave", "  do two(ha, hb)"])
+        self.assertEqual([row[1] for row in read_loop(NAMES, text).section("turn")[:2]], ["hd", "he"])
         text, _ = text_with("end", ["  x = g(f(a), f(b))", "  hb = a", "  hd = hb"])
         self.assertEqual(read_loop(NAMES, text).section("end")[:3], [
             ("call", "ha", "f", "a"), ("call", "he", "f", "b"), ("call", "x", "g", "ha", "he")])

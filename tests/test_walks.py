@@ -467,6 +467,24 @@ class PictureTest(Case):
             ((False, False), groups, (1, 1, 1), (), (), (), ((1, 0, False), (1, 2, False)), (), ()),
         })
 
+    def test_values_that_become_unlike_are_made_of(self):
+        names = Names(["a"], {}, {"le": 2}, {"get": 0}, {"le": "order"})
+        start = [("do", name, "get") for name in "xyhk"]
+        asked = [ask("le", pair) for pair in ("hx", "yh", "kx", "yk")]
+        one = loop([*start, *asked, same("h", "k", []), ("put", "h", "a"), ("put", "k", "a")], names=names)
+        told = self.behind_start(one, loop([("do", None, "get")] * 4, names=names))
+        groups = (((1, "x"),), ((1, "y"),), ((1, "h"), (1, "k"), (0, "a")))
+        no = [row for row in told if row[2][:2] == (2, 2)]
+        self.assertEqual(no, [((False, False), groups, (2, 2, 2), (), (), ((0, 1),), ((0, 1, True),), (), ())])
+        one = loop([*start, *asked, ("put", "h", "a"), ("put", "k", "a")], names=names)
+        self.assertIn(((False, False), groups, (1, 1, 2), (), (), (), ((0, 1, False),), (), ()),
+                      self.behind_start(one, loop([("do", None, "get")] * 4, names=names)))
+
+    def behind_start(self, one, other):
+        told = table(one, other)
+        self.assertEqual(len(set(told)), len(told))
+        return told
+
     def test_shares(self):
         names = Names([], {"g": 2}, {}, {"get": 0})
         start = [("do", name, "get") for name in "xyuvw"]

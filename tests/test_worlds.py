@@ -154,6 +154,10 @@ class EqualTest(unittest.TestCase):
             self.assertFalse(made() == made(**others), others)
             self.assertTrue(made() != made(**others))
 
+    def test_another_size_alone(self):
+        self.assertFalse(World(NAMES, 2, {"a": 0, "b": 1}) == World(NAMES, 3, {"a": 0, "b": 1}))
+        self.assertFalse(World(NAMES, 2, {"a": 0, "b": 1}) == World(NAMES, 2, {"a": 1, "b": 0}))
+
     def test_what_is_so_anyway_need_not_be_told(self):
         one = World(NAMES, 2, {"a": 0, "b": 1})
         two = World(NAMES, 2, {"a": 0, "b": 1}, {

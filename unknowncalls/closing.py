@@ -57,6 +57,14 @@ class Known:
         """The leaders of all groups, ascending."""
         return [value for value, lead in enumerate(self.leads) if value == lead]
 
+    def lead_of(self, result):
+        """The leader of a result; a gone one has none."""
+        return GONE if result == GONE else self.leads[result]
+
+    def share_rows(self):
+        """The shares as lists of pairs of leaders."""
+        return [[(self.leads[value], self.lead_of(result)) for value, result in share] for share in self.shares]
+
     def key(self, name, values):
         """Equal for just those calls, or questions, that are the same."""
         one, other = self.leads[values[0]], self.leads[values[-1]]
@@ -202,14 +210,13 @@ class Known:
 
     def _follow_shares(self):
         pairs = []
-        for share in self.shares:
+        for share in self.share_rows():
             results = {}
             for value, result in share:
-                lead = self.leads[value]
-                if lead in results:
-                    pairs.extend(self._met(results[lead], result))
-                if results.get(lead, GONE) == GONE:
-                    results[lead] = result
+                if value in results:
+                    pairs.extend(self._met(results[value], result))
+                if results.get(value, GONE) == GONE:
+                    results[value] = result
         return pairs
 
     def _tell_order(self, low, high, is_strict):

@@ -30,8 +30,7 @@ class Doing:
         if has_left and word == "turn":
             return rows, done, state
         env = {name: self._constants[name] for name in self._constants}
-        if state is not None:
-            env.update(dict(zip(self._lasting, held)))
+        env.update(dict(zip(self._lasting, held)))
         env["item"] = item
         todo = (self._steps[word], 0, None)
         while todo is not None:

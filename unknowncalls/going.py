@@ -22,15 +22,14 @@ def left_behind(known, held):
     calls, beside = [], {}
     for key, result in known.calls.items():
         gone = [value for value in key[1:] if value not in held]
-        lead = _lead(known, result)
+        lead = known.lead_of(result)
         if not gone:
             calls.append((key, lead))
         elif len(key) == 3 and len(gone) == 1:
             at = 1 if key[1] in held else 2
             place = 0 if known.told_rules.get(key[0]) in EITHER_WAY else at
             beside.setdefault((key[0], place, gone[0]), []).append((key[at], lead))
-    shares = [[(known.leads[value], _lead(known, result)) for value, result in share] for share in known.shares]
-    calls, shares = _without_bare(known, held, calls, shares + list(beside.values()))
+    calls, shares = _without_bare(known, held, calls, known.share_rows() + list(beside.values()))
     left = [(key, result if result in held else GONE) for key, result in calls]
     return left, [[(value, result if result in held else GONE) for value, result in share] for share in shares]
 
@@ -57,11 +56,7 @@ def squeezed_behind(known, held):
 def settlers(known, value):
     """The functions that settle, of which a leader is known as the result."""
     names = [name for name, rule in known.told_rules.items() if rule == "settles"]
-    return [name for name in names if _lead(known, known.calls.get((name, value), GONE)) == value]
-
-
-def _lead(known, result):
-    return GONE if result == GONE else known.leads[result]
+    return [name for name in names if known.lead_of(known.calls.get((name, value), GONE)) == value]
 
 
 def _without_bare(known, held, calls, shares):

@@ -5,7 +5,7 @@ follows from such ones, another pair shows that is not farther away.
 """
 
 from unknowncalls.doing import Doing
-from unknowncalls.errors import BadMachine, UnlikeNames
+from unknowncalls.errors import BadMachine
 from unknowncalls.partition import coarsest
 from unknowncalls.twins import Twins
 from unknowncalls.unions import Unions
@@ -13,8 +13,6 @@ from unknowncalls.unions import Unions
 
 def parting_in(world, one, other):
     """Items and results over which both do unlike deeds in this world, None if there are none."""
-    if not one.names == world.names or not other.names == world.names:
-        raise UnlikeNames()
     return Twins(Doing(one, world), Doing(other, world), world.size).parting()
 
 

@@ -60,7 +60,7 @@ class _Parts:
         return self._row[self._firsts[part]:self._ends[part]]
 
     def split_off(self, states):
-        """Splits all parts of which some are among these and some are not; returns the new ones."""
+        """Splits all parts of which some are among these, each told once, and some are not; returns the new ones."""
         parts = {}
         for state in states:
             part = self.part_of[state]
@@ -72,11 +72,10 @@ class _Parts:
     def _hit(self, state, part):
         """Brings a state to the beginning of its part, behind the others that were hit."""
         to, spot = self._firsts[part] + self._hits[part], self._spots[state]
-        if spot >= to:
-            other = self._row[to]
-            self._row[to], self._row[spot] = state, other
-            self._spots[state], self._spots[other] = to, spot
-            self._hits[part] += 1
+        other = self._row[to]
+        self._row[to], self._row[spot] = state, other
+        self._spots[state], self._spots[other] = to, spot
+        self._hits[part] += 1
 
     def _split(self, part):
         """Gives the lesser half of a part a new number, None if all were hit."""

@@ -4,7 +4,7 @@ from unknowncalls.words import LETTERS
 
 
 def read_term(text):
-    """The term that a whole text is, None if it is none.
+    """The term that a whole text is; None, or one with an empty name, if it is none.
 
     A term is a name alone, or a pair of a name and a list of terms.
     """
@@ -13,13 +13,13 @@ def read_term(text):
 
 
 def _term_at(text, at):
-    """The term that begins at a place of a text, None if there is none, and the place where it ends."""
+    """The term that begins at a place of a text, and where it ends; None, or an empty name, if there is none."""
     end = at
     while text[end:end + 1] != "" and text[end] in LETTERS:
         end += 1
     name = text[at:end]
     if name == "" or text[end:end + 1] != "(":
-        return (None if name == "" else name), end
+        return name, end
     if text[end + 1:end + 2] == ")":
         return (name, []), end + 2
     terms, sign = [], ", "

@@ -13,8 +13,8 @@ def impossible_pairs(known, held):
     for pair, truth, word in _meetings(known, known.said, [], held):
         if truth != word:
             found[pair] = True
-    calls = {key: GONE if result == GONE else known.leads[result] for key, result in known.calls.items()}
-    for pair, result, worth in _meetings(known, calls, _share_rows(known), held):
+    calls = {key: known.lead_of(result) for key, result in known.calls.items()}
+    for pair, result, worth in _meetings(known, calls, known.share_rows(), held):
         if result != worth and GONE not in (result, worth):
             following.setdefault(pair, []).append((result, worth))
     for pair, value in _between(known, held):
@@ -76,12 +76,6 @@ def _slots(known, table):
     return slots
 
 
-def _share_rows(known):
-    """The pairs of each share, as those of a slot."""
-    return [[(known.leads[value], GONE if result == GONE else known.leads[result]) for value, result in share]
-            for share in known.shares]
-
-
 def _between(known, held):
     """The pairs of held values of which one is not behind the other, each with the values between both."""
     if not known.is_ordered:
@@ -100,7 +94,7 @@ def _used(known):
     used = 0
     for key in [*known.calls, *known.said]:
         used |= 1 << key[1] | 1 << key[-1]
-    for rows in _share_rows(known):
+    for rows in known.share_rows():
         for value, _ in rows:
             used |= 1 << value
     for value, up in enumerate(known.ups):

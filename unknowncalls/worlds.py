@@ -88,10 +88,8 @@ class World:
         if rows is None:
             raise BadWorld("constants")
         found = {as_text(name): as_below(worth, self.size) for name, worth in rows}
-        are_right = len(rows) == len(found) and None not in found and None not in list(found.values())
-        if not are_right or len(found) != len(self.names.constants):
-            raise BadWorld("constants")
-        if not all([name in found for name in self.names.constants]):
+        has_each = len(rows) == len(self.names.constants) and all([name in found for name in self.names.constants])
+        if not has_each or None in list(found.values()):
             raise BadWorld("constants")
         return found
 

@@ -207,6 +207,45 @@ class TrialTest(unittest.TestCase):
                 known = trial
         return known
 
+    def check(self, known, pair, can_be):
+        held = {lead: True for lead in known.leaders()}
+        self.assertIs(known.can_be_equal(*pair), can_be)
+        self.assertIs(pair not in impossible_pairs(known, held), can_be)
+
+    def test_two_joinings_that_follow(self):
+        for names in ("fh", "hf"):
+            for is_unlike in (True, False):
+                known = Known({}, 6)
+                rows = {names[0]: (2, 3), names[1]: (4, 5)}
+                for name in "fh":
+                    known.learn(name, [0], rows[name][0])
+                    known.learn(name, [1], rows[name][1])
+                if is_unlike:
+                    known.make_unlike(4, 5)
+                self.check(known, (0, 1), not is_unlike)
+
+    def test_joinings_that_follow_one_another(self):
+        for is_unlike in (True, False):
+            known = Known({}, 5)
+            for name, results in (("f", (2, 3)), ("h", (3, 4))):
+                known.learn(name, [0], results[0])
+                known.learn(name, [1], results[1])
+            if is_unlike:
+                known.make_unlike(2, 4)
+            self.check(known, (0, 1), not is_unlike)
+
+    def test_results_that_an_order_holds_together(self):
+        for is_unlike in (True, False):
+            known = Known({"r": "order"}, 6)
+            known.learn("f", [0], 2)
+            known.learn("f", [1], 3)
+            for between in (4, 5):
+                known.answer("r", [between, 2], False)
+                known.answer("r", [3, between], False)
+            if is_unlike:
+                known.make_unlike(4, 5)
+            self.check(known, (0, 1), not is_unlike)
+
     def test_drawn(self):
         chance = random.Random(14)
         seen = {True: 0, False: 0}
@@ -217,6 +256,7 @@ class TrialTest(unittest.TestCase):
             told = impossible_pairs(known, held)
             for pair in told:
                 self.assertLess(*pair)
+                self.assertTrue(pair[0] in held and pair[1] in held)
             for at, one in enumerate(leaders):
                 for other in leaders[at + 1:]:
                     if one in held and other in held and not known.unlikes[one] >> other & 1:

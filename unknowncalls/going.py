@@ -82,6 +82,6 @@ def _right_shares(known, held, shares):
         pairs = [(value, results[value]) for value in sorted(results)
                  if any([not known.unlikes[value] >> other & 1 for other in results if other != value])]
         worth = [result for _, result in pairs]
-        if len(pairs) > 1 and (GONE in worth or any([result != worth[0] for result in worth])):
+        if GONE in worth or any([result != worth[0] for result in worth]):
             found[tuple(pairs)] = True
     return [list(pairs) for pairs in found]

@@ -40,8 +40,8 @@ def _can_be(known, used, pair, joinings):
 def _meetings(known, table, shares, held):
     """The pairs of held values from whose joining something follows, each with what is known of both."""
     found = []
-    for rows in list(_slots(known, table).values()) + shares:
-        rows = [row for row in rows if row[0] in held]
+    kept = [[row for row in share if row[0] in held] for share in shares]
+    for rows in list(_slots(known, table, held).values()) + kept:
         for at, (one, worth) in enumerate(rows):
             for other, word in rows[at + 1:]:
                 found.append((_ascending(one, other), worth, word))
@@ -58,8 +58,8 @@ def _ascending(one, other):
     return (one, other) if one < other else (other, one)
 
 
-def _slots(known, table):
-    """The lists of pairs of a value and what is known of it, slot by slot.
+def _slots(known, table, held):
+    """The lists of pairs of a held value and what is known of it, slot by slot.
 
     A slot is a name and a place, with the other value that stands beside the one at this
     place: from the joining of two values something follows in the slots that both have.
@@ -67,11 +67,11 @@ def _slots(known, table):
     slots = {}
     for key, worth in table.items():
         name, one, other = key[0], key[1], key[-1]
-        if one == other:
-            slots.setdefault(name, []).append((one, worth))
-        else:
+        if one in held:
+            slot = name if one == other else (name, 1, other)
+            slots.setdefault(slot, []).append((one, worth))
+        if other in held and one != other:
             place = 1 if known.told_rules.get(name) in EITHER_WAY else 2
-            slots.setdefault((name, 1, other), []).append((one, worth))
             slots.setdefault((name, place, one), []).append((other, worth))
     return slots
 

@@ -98,8 +98,8 @@ class PartingInTest(unittest.TestCase):
         for _ in range(400):
             names = chance.choice(drawn.NAMES)
             drawing = drawn.Drawing(chance, names, ("x", "y", "z"), 5)
-            one = drawing.loop()
-            other = chance.choice((drawn.altered(chance, one, drawing), drawing.loop()))
+            one = drawing.loop(start=6)
+            other = chance.choice((drawn.altered(chance, one, drawing), drawing.loop(start=6)))
             world = drawn.world(chance, names, chance.randrange(1, 4))
             if world is None:
                 continue
@@ -235,8 +235,8 @@ class PartingTest(unittest.TestCase):
         for _ in range(600):
             names = chance.choice(drawn.NAMES)
             drawing = drawn.Drawing(chance, names, ("x", "y", "z"), 6)
-            one = drawing.loop()
-            other = chance.choice((drawn.altered(chance, one, drawing), drawing.loop()))
+            one = drawing.loop(start=6)
+            other = chance.choice((drawn.altered(chance, one, drawing), drawing.loop(start=6)))
             world = drawn.world(chance, names, chance.randrange(1, 4))
             if world is None:
                 continue
@@ -336,6 +336,20 @@ class LargeTest(unittest.TestCase):
     def test_results_that_no_register_takes(self):
         one = loop([], [("do", None, "get")] * 18, [tell("a")])
         self.assertIsNone(parting_in(World(NAMES, 4, {"a": 0, "b": 1}), one, one))
+
+    def test_many_results_that_are_kept(self):
+        registers = ["r" + letter for letter in "abcde"]
+        start = [("put", name, "a") for name in registers]
+        turn = [("do", name, "get") for name in registers]
+        turn += [("if", ("same", registers[0], "item"), [("call", registers[0], "f", registers[0])], [])]
+        one = loop(start, turn, [tell(name) for name in registers])
+        two = loop(start, turn, [tell(name) for name in registers[:4]] + [
+            ("if", ("same", "re", "b"), [("if", ("same", "rd", "b"), [tell("a")], [tell("re")])], [tell("re")])])
+        world = World(NAMES, 4, {"a": 0, "b": 3})
+        self.assertIsNone(parting_in(world, one, one))
+        items, results = parting_in(world, one, two)
+        self.assertEqual(len(items), 1)
+        self.assertNotEqual(deeds(one, world, items, results), deeds(two, world, items, results))
 
     def test_many_results(self):
         registers = ["r" + letter for letter in "abcde"]

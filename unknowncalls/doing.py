@@ -21,6 +21,8 @@ class Doing:
         self._constants = {name: world.constant(name) for name in world.names.constants}
         self._known = {}
         pairs = [pair for word in SECTIONS for pair in placed((word,), loop.section(word))]
+        held = {name: True for name in self._lasting}
+        self._needed = {"turn": _needed(self._steps["turn"], held, held), "end": _needed(self._steps["end"], {}, held)}
         self._takes = {place: statement[1] is not None for place, statement in pairs if statement[0] == "do"}
 
     def section(self, word, state, item, given):
@@ -46,6 +48,12 @@ class Doing:
             elif steps[at][0] == "leave":
                 has_left, todo = True, None
         return rows, done, (has_left, tuple([env[name] for name in self._lasting]))
+
+    def view(self, word, state):
+        """What of a state tells what is done in a section, and which state is behind a turn."""
+        if state is None or (state[0] and word == "turn"):
+            return state
+        return tuple([thing for name, thing in zip(self._lasting, state[1]) if name in self._needed[word]])
 
     def taken(self, rows):
         """The numbers of the deeds whose results a register takes, of what is done step by step."""
@@ -82,3 +90,17 @@ class Doing:
         if (name, things) not in self._known:
             self._known[(name, things)] = self._world.gives(name, things)
         return self._known[(name, things)]
+
+
+def _needed(steps, behind, held):
+    """The sources that matter ahead of steps, if these matter behind them, and those that are held behind a leave."""
+    needed = behind
+    for word, _, target, _, sources, then, other in reversed(steps):
+        if word == "leave":
+            needed = held
+        elif word == "if":
+            needed = {**_needed(then, needed, held), **_needed(other, needed, held)}
+        elif target is not None:
+            needed = {name: True for name in needed if name != target}
+        needed = {**needed, **{source: True for source in sources}}
+    return needed

@@ -65,19 +65,28 @@ class Machine:
 
 def _explored(doing, first, size):
     """For all states that are come to: the deeds of their ends, those of their turns, and the states behind."""
-    numbers, states = {first: 0}, [first]
+    numbers, states, known = {first: 0}, [first], {}
     ends, turns, moves = [], [], []
     while len(ends) < len(states):
         state = states[len(ends)]
-        ends.append(tuple(doing.section("end", state, None, [])[1]))
-        steps = [doing.section("turn", state, item, []) for item in range(size)]
-        turns.append(tuple([tuple(done) for _, done, _ in steps]))
-        for _, _, behind in steps:
+        ends.append(_done(doing, known, "end", state, None)[0])
+        steps = [_done(doing, known, "turn", state, item) for item in range(size)]
+        turns.append(tuple([done for done, _ in steps]))
+        for _, behind in steps:
             if behind not in numbers:
                 numbers[behind] = len(states)
                 states.append(behind)
-        moves.append([numbers[behind] for _, _, behind in steps])
+        moves.append([numbers[behind] for _, behind in steps])
     return ends, turns, moves
+
+
+def _done(doing, known, word, state, item):
+    """The deeds of a section, and the state behind it; what is known of it once is not done again."""
+    key = (word, item, doing.view(word, state))
+    if key not in known:
+        _, done, behind = doing.section(word, state, item, [])
+        known[key] = (tuple(done), behind)
+    return known[key]
 
 
 def _least(ends, turns, moves):

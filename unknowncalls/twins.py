@@ -10,6 +10,7 @@ class Twins:
         self._both = (one, other)
         self._size = size
         self._unions = Unions()
+        self._seen = {}
 
     def parting(self):
         """Items, as few as there can be, and results over which both do unlike deeds, else None."""
@@ -35,6 +36,8 @@ class Twins:
         """The new pairs of states behind a section, with the items and results; or what parts in it."""
         behind = []
         for states, items, results in ahead:
+            if self._is_seen(word, states, item):
+                continue
             for given, done, pair in self._done_by_both(word, states, item):
                 read = items + [item] if word == "turn" else items
                 told = results + [given]
@@ -43,6 +46,14 @@ class Twins:
                 if word != "end" and self._unions.unite((1, pair[0]), (2, pair[1])):
                     behind.append((pair, read, told))
         return behind, None
+
+    def _is_seen(self, word, states, item):
+        """Whether just the same was done in a section before, from states that are alike in what matters there."""
+        views = [doing.view(word, state) for doing, state in zip(self._both, states)]
+        key = (word, item, views[0], views[1])
+        is_seen = key in self._seen
+        self._seen[key] = True
+        return is_seen
 
     def _done_by_both(self, word, states, item):
         """What both do in a section, and the states behind it, with all results that either takes."""

@@ -157,6 +157,22 @@ class MachineTest(unittest.TestCase):
             ([("tell", (0,))], [([("tell", (0,))], 0), ([("tell", (1,))], 1)]),
             ([("tell", (0,))], [([], 1), ([], 1)])])
 
+    def test_what_is_held_behind_a_leave(self):
+        turn = [("if", ("ask", "p", "item"), [("leave",)], []), ("put", "x", "y"), ("put", "y", "item")]
+        one = loop([("put", "x", "a"), ("put", "y", "b")], turn, [tell("x")])
+        machine = Machine(one, WORLD)
+        for many in range(5):
+            for items in itertools.product(range(2), repeat=many):
+                at = 0
+                for item in items:
+                    at = machine.rows()[at][1][item][1]
+                self.assertEqual([machine.rows()[at][0]], deeds(one, WORLD, items)[-1:])
+        two = loop([("put", "x", "a"), ("put", "y", "b"), ("put", "z", "a")], [*turn, ("put", "z", "b")], [
+            ("if", ("same", "x", "b"), [tell("b")], [tell("x")])])
+        self.assertIsNone(parting_in(WORLD, one, two))
+        three = loop(two.section("start"), turn[1:], [tell("x")])
+        self.assertEqual(len(parting_in(WORLD, one, three)[0]), 1)
+
     def test_results_are_all_0(self):
         one = loop([("do", "x", "get")], [("do", "x", "get")], [tell("x")])
         self.assertEqual(Machine(one, WORLD).rows(), [([("tell", (0,))], [([("get", ())], 0)] * 2)])

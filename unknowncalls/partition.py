@@ -6,7 +6,7 @@ def coarsest(outputs, moves):
 
     outputs tells what each state gives by itself, moves the lists of the states behind it.
     """
-    parts = _Parts(len(outputs))
+    parts = Parts(len(outputs))
     for states in _listed(outputs).values():
         parts.split_off(states)
     befores = _befores(moves)
@@ -36,7 +36,7 @@ def _befores(moves):
     return befores
 
 
-class _Parts:
+class Parts:
     """Numbers in parts; those of each part stand side by side in one row.
 
     A part is split in a time that only those who are hit cost: what was hit is brought to its

@@ -20,7 +20,7 @@ def write_loop(loop):
 
 def read_loop(names, text):
     """The loop with a text."""
-    reader = _LineReader(names, as_text(text))
+    reader = LineReader(names, as_text(text))
     start, turn, end = [reader.read_section(word) for word in ("start", "turn", "end")]
     reader.check_end()
     return Loop(names, start, turn, end)
@@ -57,7 +57,7 @@ def _bracketed(name, sources):
     return f"{name}({', '.join(sources)})"
 
 
-class _LineReader:
+class LineReader:
     """Reads a text line by line; what cannot stand there is a bad line."""
 
     def __init__(self, names, text):

@@ -331,7 +331,7 @@ class ForgetTest(Case):
 
     def all_pictures(self, one):
         from unknowncalls.runs import Pair
-        from unknowncalls.walks import Walk
+        from unknowncalls.walking import Walk
         walk = Walk(Pair(one, loop([("do", None, "get")] * 5)))
         walk.find_parted()
         return walk.pictures()

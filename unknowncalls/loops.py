@@ -17,6 +17,7 @@ class Loop:
         self._sections = {"start": first, "turn": second, "end": third}
         self._registers = tuple(_targets(self._placed()))
         self._lasting = tuple([name for name in self._registers if name in put])
+        self._put_at = reader.put_at
 
     def section(self, word):
         """A new list of the statements of the section with this word."""
@@ -36,6 +37,12 @@ class Loop:
     def places(self):
         """A new list of the places of all statements, in the order of reading."""
         return [pair[0] for pair in self._placed()]
+
+    def sources(self, place):
+        """A new list of what can be a source ahead of a statement: registers, constants, the item in the turn."""
+        put = self._put_at[place]
+        registers = [name for name in self._registers if put is None or name in put]
+        return [*registers, *self.names.constants, *["item" for word in place[:1] if word == "turn"]]
 
     def __eq__(self, other):
         return isinstance(other, Loop) and self.names == other.names and self._sections == other._sections

@@ -1,4 +1,7 @@
-"""Pictures: what is known behind a section, told in plain tuples, and runs that go on from there."""
+"""Pictures: what is known behind a section, told in plain tuples, and runs that go on from there.
+
+An item that is still to come to a loop is held as "item" by it.
+"""
 
 from unknowncalls.closing import EITHER_WAY, GONE, Known, bits
 from unknowncalls.going import left_behind, part_impossible, squeezed_behind
@@ -55,6 +58,7 @@ def run_from(pair, picture):
             if side != 1:
                 envs[1][name] = number
     run = Run(pair, known, lefts, envs)
+    run.waits = (envs[0].get("item"), envs[1].get("item"))
     run.index = 0
     return run
 
@@ -69,6 +73,9 @@ def _groups(run):
             groups.setdefault(leads[env[name]], []).append((side, name))
     for name in pair.constants:
         groups.setdefault(leads[run.envs[0][name]], []).append((0, name))
+    for side, value in zip((1, 2), run.waits):
+        if value is not None:
+            groups.setdefault(leads[value], []).append((side, "item"))
     return groups
 
 

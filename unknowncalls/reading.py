@@ -21,12 +21,13 @@ def placed(place, statements):
 
 
 class Reader:
-    """Reads the sections of a loop with these names."""
+    """Reads the sections of a loop with these names; put_at tells what is put ahead of the statement at each place."""
 
     def __init__(self, names):
         self._constants = names.constants
         self._numbers = {"call": names.functions(), "ask": names.tests(), "do": names.deeds()}
         self._taken = [*names.constants, *names.functions(), *names.tests(), *names.deeds()]
+        self.put_at = {}
 
     def read_section(self, word, thing, put):
         """The tuple of the statements, and what is put behind them."""
@@ -39,6 +40,7 @@ class Reader:
         statements = []
         for index, thing in enumerate(things):
             is_last = index == len(things) - 1
+            self.put_at[place + (index,)] = put
             statement, put = self._read(place + (index,), thing, put, is_last)
             statements.append(statement)
         return tuple(statements), put

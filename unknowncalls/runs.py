@@ -3,16 +3,22 @@
 from unknowncalls.closing import GONE
 from unknowncalls.errors import UnlikeNames
 from unknowncalls.facts import known_facts
+from unknowncalls.readings import READINGS, WAITING
 from unknowncalls.steps import steps_of
 
 
 class Pair:
-    """Two loops with equal names, and what both have in common."""
+    """Two loops with equal names, and what both have in common.
 
-    def __init__(self, one, other):
+    test is the one that new items are told by, where a reading tells what it says of them.
+    """
+
+    def __init__(self, one, other, test=None):
         if not one.names == other.names:
             raise UnlikeNames()
         names = one.names
+        self.names = names
+        self.test = test
         self.constants = names.constants
         self.told_rules = names.rules()
         self.steps = (steps_of(one), steps_of(other))
@@ -31,7 +37,8 @@ class Run:
     """A run of a pair: envs tells for each loop which values its sources have.
 
     What is told, done and given is that of one section alone; origins tells of all values
-    what they are, from the first section on.
+    what they are, from the first section on. waits are the items that are still to come to
+    one of both. A watch is told of each step that the run comes to.
     """
 
     def __init__(self, pair, known, lefts, envs):
@@ -39,6 +46,8 @@ class Run:
         self.known = known
         self.lefts = lefts
         self.envs = envs
+        self.waits = (None, None)
+        self.watch = None
         self.word = None
         self.index = -1
         self.side = 2
@@ -52,6 +61,8 @@ class Run:
     def fork(self):
         """The same once more, so that each can go on apart from the other."""
         other = Run(self.pair, self.known.fork(), self.lefts, (dict(self.envs[0]), dict(self.envs[1])))
+        other.waits = self.waits
+        other.watch = self.watch
         other.word = self.word
         other.index = self.index
         other.side = self.side
@@ -62,15 +73,13 @@ class Run:
         other.origins = list(self.origins)
         return other
 
-    def begin(self, word):
-        """Comes to a section, ahead of all that one does in it."""
+    def begin(self, word, reading="together"):
+        """Comes to a section, ahead of all that one does in it; the reading tells who reads what in a turn."""
         self.index += 1
         self.word = word
         self.envs = (self._held_env(0), self._held_env(1))
         if word == "turn":
-            value = self._new_value(("item", self.index))
-            self.envs[0]["item"] = value
-            self.envs[1]["item"] = value
+            self._read(READINGS[reading])
         self.told = ([], [])
         self.done = ([], [])
         self.given = []
@@ -86,12 +95,18 @@ class Run:
             steps, at, outer = self.todo
             if at == len(steps):
                 self.todo = outer
-            elif steps[at][0] == "if":
+                continue
+            if self.watch is not None:
+                self.watch.come(self, steps[at])
+            if steps[at][0] == "if":
                 return True
-            else:
-                self.todo = (steps, at + 1, outer)
-                self._do(steps[at])
+            self.todo = (steps, at + 1, outer)
+            self._do(steps[at])
         return False
+
+    def wanted(self):
+        """The step of the question that is come to, None if the section is done."""
+        return None if self.todo is None else self.todo[0][self.todo[1]]
 
     def question(self):
         """The place, the test and the values of the question that is come to."""
@@ -122,11 +137,27 @@ class Run:
         env = self.envs[side]
         return {name: env[name] for name in [*self.pair.constants, *lasting]}
 
+    def _read(self, reading):
+        """Gives the items of a turn; one that reads none has none, and does nothing."""
+        truths, reads, behind = reading
+        news = [self._new_value(("item", self.index)) for _ in truths]
+        for value, truth in zip(news, truths):
+            if truth is not None:
+                self.known.answer(self.pair.test, [value], truth)
+        for env, at, waiting in zip(self.envs, reads, self.waits):
+            item = waiting if at == WAITING else _picked(news, at)
+            if item is not None:
+                env["item"] = item
+        self.waits = (_picked(news, behind[0]), _picked(news, behind[1]))
+
     def _turn_over(self):
-        """Comes to the first step of the next loop."""
+        """Comes to the first step of the next loop that does this section."""
         self.side += 1
-        if self.side < 2 and not (self.word == "turn" and self.lefts[self.side]):
-            self.todo = (self.pair.steps[self.side][self.word], 0, None)
+        if self.side == 2:
+            return
+        if self.word == "turn" and (self.lefts[self.side] or "item" not in self.envs[self.side]):
+            return
+        self.todo = (self.pair.steps[self.side][self.word], 0, None)
 
     def _do(self, step):
         word, place, target, name, sources, _, _ = step
@@ -165,3 +196,8 @@ class Run:
     def _new_value(self, origin):
         self.origins.append(origin)
         return self.known.fresh()
+
+
+def _picked(values, at):
+    """The value at a place of a list; at none there is none."""
+    return None if at is None else values[at]

@@ -13,6 +13,24 @@ def steps_of(loop):
     return {word: _steps((word,), loop.section(word)) for word in SECTIONS}
 
 
+def way_of(steps, truths):
+    """The steps that are come to by these answers: up to an if without one, where they are too few."""
+    passed, todo, at = [], (steps, 0, None), 0
+    while todo is not None:
+        block, index, outer = todo
+        if index == len(block):
+            todo = outer
+            continue
+        step, todo = block[index], (block, index + 1, outer)
+        passed.append(step)
+        if step[0] == "leave" or (step[0] == "if" and at == len(truths)):
+            todo = None
+        elif step[0] == "if":
+            todo = (step[5 if truths[at] else 6], 0, todo)
+            at += 1
+    return passed
+
+
 def _steps(place, statements):
     return tuple([_step(place + (index,), statement) for index, statement in enumerate(statements)])
 

@@ -1,9 +1,10 @@
 """Tales: what is known of a run of two loops, when nothing is ever let go."""
 
-from unknowncalls.errors import BadAnswers, BadSide, Impossible, NoRegister, NoValue
+from unknowncalls.errors import BadAnswers, BadSide, NoRegister, NoValue
 from unknowncalls.runs import Pair
+from unknowncalls.steps import way_of
+from unknowncalls.stories import Story, leads_of
 from unknowncalls.words import as_below, as_integer, as_list, as_text
-from unknowncalls.worlds import World
 
 
 class Tale:
@@ -12,18 +13,8 @@ class Tale:
     def __init__(self, one, other, answers, ended=False):
         pair = Pair(one, other)
         told = _read_answers(pair, answers, ended)
-        self._names = one.names
-        self._run = pair.first_run()
-        self._items = []
-        self._done = []
-        self._given = []
-        for index, (word, truths) in enumerate(told):
-            self._run.begin(word)
-            if word == "turn":
-                self._items.append(len(self._run.origins) - 1)
-            _follow(self._run, index, truths)
-            self._done.append(self._run.done)
-            self._given.append(self._run.given)
+        self._story = Story(pair, [(word, "together", truths) for word, truths in told])
+        self._run = self._story.run
 
     def many(self):
         """The number of the values."""
@@ -34,7 +25,7 @@ class Tale:
         origin = self._run.origins[self._as_value(value)]
         if origin[0] != "call":
             return origin
-        return ("call", origin[1], self._leads(origin[2]))
+        return ("call", origin[1], leads_of(self._run.known, origin[2]))
 
     def groups(self):
         """The tuples of the values that are known equal."""
@@ -62,59 +53,34 @@ class Tale:
         number = as_integer(side)
         if number not in (1, 2):
             raise BadSide(side)
-        return [[(deed, self._leads(values)) for deed, values in done[number - 1]] for done in self._done]
+        return self._story.deeds(number, self._run.known)
 
     def parts(self):
         """The number of the first section in which both do not do the same deeds, else None."""
-        for index, (done, others) in enumerate(zip(self.deeds(1), self.deeds(2))):
-            if done != others:
-                return index
-        return None
+        return self.parts_by(self._run.known)
+
+    def parts_by(self, known):
+        """The same, by what is known else."""
+        return self._story.parts(known)
 
     def world(self):
         """A world in which all groups are unlike things, with the items and the results."""
-        known = self._run.known
-        things = {lead: thing for thing, lead in enumerate(known.leaders())}
-        functions, tests = {}, {}
-        for key, result in known.calls.items():
-            table = functions.setdefault(key[0], {})
-            table[tuple([things[value] for value in key[1:]])] = things[known.leads[result]]
-        for key, truth in known.said.items():
-            if truth:
-                tests.setdefault(key[0], []).append(tuple([things[value] for value in key[1:]]))
-        for name, rule in self._names.rules().items():
-            if rule == "order" and things:
-                tests[name] = [things[lead] for lead in _line(known)]
-        values = self._leads(list(range(len(self._names.constants))))
-        constants = {name: things[value] for name, value in zip(self._names.constants, values)}
-        world = World(self._names, max(len(things), 1), constants, functions, tests)
-        items = [things[value] for value in self._leads(self._items)]
-        return world, items, [[things[value] for value in self._leads(given)] for given in self._given]
+        return self.world_by(self._run.known)
 
-    def _leads(self, values):
-        return tuple([self._run.known.leads[value] for value in values])
+    def world_by(self, known):
+        """The same, by what is known else."""
+        world, items, results = self._story.world(known)
+        return world, items[0], results
+
+    def trial(self):
+        """All that is known in the end, once more, so that more can become known of it."""
+        return self._run.known.fork()
 
     def _as_value(self, thing):
         value = as_below(thing, self.many())
         if value is None:
             raise NoValue(thing)
         return value
-
-
-def _line(known):
-    """The leaders in an order that keeps what is known of it."""
-    leaders = known.leaders()
-    ahead = [(sum([known.ups[other] >> lead & 1 for other in leaders]), lead) for lead in leaders]
-    return [lead for _, lead in sorted(ahead)]
-
-
-def _follow(run, index, truths):
-    """Goes through a section as it is told."""
-    while run.go():
-        at = len(run.told[run.side])
-        run.answer(truths[run.side][at])
-        if not run.known.is_possible:
-            raise Impossible(index, run.side + 1, at)
 
 
 def _read_answers(pair, answers, is_ended):
@@ -154,19 +120,5 @@ def _as_truths(thing):
 
 def _way(steps, truths):
     """Whether the way through a section leaves, None if it takes more answers, or less."""
-    todo, at = (steps, 0, None), 0
-    has_left = False
-    while todo is not None:
-        block, index, outer = todo
-        if index == len(block):
-            todo = outer
-            continue
-        todo = (block, index + 1, outer)
-        if block[index][0] == "leave":
-            has_left, todo = True, None
-        elif block[index][0] == "if":
-            if at == len(truths):
-                return None
-            todo = (block[index][5 if truths[at] else 6], 0, todo)
-            at += 1
-    return has_left if at == len(truths) else None
+    words = [step[0] for step in way_of(steps, truths)]
+    return words[-1:] == ["leave"] if words.count("if") == len(truths) else None

@@ -408,6 +408,7 @@ class Section:
     def block(self, block, place, side, env, answers):
         for index, statement in enumerate(block):
             self.place, self.side = place + (index,), side
+            self.see(statement, env)
             word = statement[0]
             if word == "leave":
                 return "leave"
@@ -422,6 +423,7 @@ class Section:
                     self.state.answer(name, [env[source] for source in sources], truth)
                 except Forgets:
                     return "forgets"
+                self.see_answer(truth)
                 branch = self.place + ("then" if truth else "else",)
                 found = self.block(statement[2 if truth else 3], branch, side, env, answers)
                 if found:
@@ -442,6 +444,12 @@ class Section:
                 if statement[1] is not None:
                     env[statement[1]] = self.results[number]
         return None
+
+    def see(self, statement, env):
+        """A statement is come to."""
+
+    def see_answer(self, truth):
+        """The if at this place is answered."""
 
     def picture(self):
         held = [((side + 1, name), self.envs[side][name]) for side in (0, 1) for name in self.pair[side].lasting()]

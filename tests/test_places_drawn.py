@@ -41,7 +41,7 @@ class DrawnTest(Case):
             self.check_worlds(chance, one)
             self.check_changed(chance, one)
         wanted = "forgotten sure unlike order needless settled never lasso none dear leaves mended".split()
-        self.assertGreater(min(self.seen.get(word, 0) for word in wanted), 10, self.seen)
+        self.assertGreater(min(self.seen.get(word, 0) for word in wanted), 5, self.seen)
 
     def check_forgotten(self, one, plain, weights):
         self.count("forgotten")

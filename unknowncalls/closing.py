@@ -99,8 +99,9 @@ class Known:
             self._answer_same(values, truth)
         elif self.told_rules.get(name) == "order":
             self.mark(values, 1)
-            low, high = values if truth else (values[1], values[0])
-            self._tell_order(self.leads[low], self.leads[high], truth)
+            if self.forced(name, values) != truth:
+                low, high = values if truth else (values[1], values[0])
+                self._tell_order(self.leads[low], self.leads[high], truth)
         else:
             self.mark(values, 2)
             if self.said.setdefault(self.key(name, values), truth) != truth:
@@ -150,7 +151,8 @@ class Known:
             self.make_equal(values[0], values[1])
         else:
             self.mark(values, 2)
-            self.make_unlike(values[0], values[1])
+            if self.forced("same", values) is not False:
+                self.make_unlike(values[0], values[1])
 
     def _met(self, result, other):
         """The pairs to be joined where two results must be equal."""
@@ -260,7 +262,6 @@ class Known:
                 self.is_possible = self.is_possible and not over >> value & 1
                 for other in bits(more):
                     self.set_unlike(value, other)
-
 
     def _tell_over(self, low, mask):
         """A leader is strictly ahead of these, and so is all that is not behind it."""

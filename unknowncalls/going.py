@@ -9,7 +9,7 @@ from unknowncalls.trials import impossible_pairs
 
 def part_impossible(known, held):
     """Held values that cannot be equal become unlike, while all is known of it still."""
-    pairs = [pair for pair in impossible_pairs(known, held) if not known.unlikes[pair[0]] >> pair[1] & 1]
+    pairs = impossible_pairs(known, held)
     for one, other in pairs:
         known.mark((one, other), 2)
         known.set_unlike(one, other)

@@ -17,10 +17,10 @@ def picture_behind(run):
     squeezed = squeezed_behind(known, groups)
     numbers = {lead: number for number, lead in enumerate(groups)}
     said = [(key, truth) for key, truth in known.said.items() if all([value in numbers for value in key[1:]])]
-    pairs = [(numbers[one], numbers[other])
-             for one in groups for other in bits(known.unlikes[one]) if other in numbers]
+    held = sum([1 << lead for lead in groups])
+    pairs = [(numbers[one], numbers[other]) for one in groups for other in bits(known.unlikes[one] & held)]
     order = [(numbers[one], numbers[other], known.overs[one] >> other & 1 == 1)
-             for one in groups for other in bits(known.ups[one]) if other in numbers]
+             for one in groups for other in bits(known.ups[one] & held)]
     numbers[GONE] = GONE
     return (
         run.lefts,

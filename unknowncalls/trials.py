@@ -8,22 +8,35 @@ from unknowncalls.closing import EITHER_WAY, GONE, bits
 
 
 def impossible_pairs(known, held):
-    """The pairs of held leaders, the lesser one first, that cannot be equal."""
-    found, following = {}, {}
-    for pair, truth, word in _meetings(known, known.said, [], held):
-        if truth != word:
-            found[pair] = True
+    """The pairs of held leaders, the lesser one first, that cannot be equal, but for those known unlike."""
+    found, following = _opposed(known, held), {}
     calls = {key: known.lead_of(result) for key, result in known.calls.items()}
     for pair, result, worth in _meetings(known, calls, known.share_rows(), held):
-        if result != worth and GONE not in (result, worth):
+        if result != worth and GONE not in (result, worth) and not known.unlikes[pair[0]] >> pair[1] & 1:
             following.setdefault(pair, []).append((result, worth))
     for pair, value in _between(known, held):
         following.setdefault(pair, []).append((pair[0], value))
-    used = _used(known)
+    used = _used(known) if following else 0
     for pair, joinings in following.items():
         if pair not in found and not _can_be(known, used, pair, joinings):
             found[pair] = True
     return list(found)
+
+
+def _opposed(known, held):
+    """A dict with the pairs of held leaders that a test tells apart, and that are not known unlike, as its keys."""
+    found, masks = {}, ({}, {})
+    for key, truth in known.said.items():
+        for slot, value in _slots_of(known, key, held):
+            masks[truth][slot] = masks[truth].get(slot, 0) | 1 << value
+    for slot, others in masks[False].items():
+        for one in bits(masks[True].get(slot, 0)):
+            for other in bits(others & ~known.unlikes[one]):
+                found[_ascending(one, other)] = True
+    for pair, truth, word in _both_ways(known.said, held):
+        if truth != word and not known.unlikes[pair[0]] >> pair[1] & 1:
+            found[pair] = True
+    return found
 
 
 def _can_be(known, used, pair, joinings):
@@ -39,18 +52,28 @@ def _can_be(known, used, pair, joinings):
 
 def _meetings(known, table, shares, held):
     """The pairs of held values from whose joining something follows, each with what is known of both."""
-    found = []
+    found = _both_ways(table, held)
+    slots = {}
+    for key, worth in table.items():
+        for slot, value in _slots_of(known, key, held):
+            slots.setdefault(slot, []).append((value, worth))
     kept = [[row for row in share if row[0] in held] for share in shares]
-    for rows in list(_slots(known, table, held).values()) + kept:
+    for rows in list(slots.values()) + kept:
         for at, (one, worth) in enumerate(rows):
             for other, word in rows[at + 1:]:
                 found.append((_ascending(one, other), worth, word))
-    for key in table:
+    return found
+
+
+def _both_ways(table, held):
+    """The pairs of held values in one key, with what is known of it, and of a key that is the same by their joining."""
+    found = []
+    for key, worth in table.items():
         if len(key) == 3 and key[1] != key[2] and key[1] in held and key[2] in held:
             name, one, other = key
             for same in ((name, one, one), (name, other, other), (name, other, one)):
                 if same in table:
-                    found.append((_ascending(one, other), table[key], table[same]))
+                    found.append((_ascending(one, other), worth, table[same]))
     return found
 
 
@@ -58,21 +81,19 @@ def _ascending(one, other):
     return (one, other) if one < other else (other, one)
 
 
-def _slots(known, table, held):
-    """The lists of pairs of a held value and what is known of it, slot by slot.
+def _slots_of(known, key, held):
+    """The pairs of a slot and the held value that stands there in a key.
 
     A slot is a name and a place, with the other value that stands beside the one at this
     place: from the joining of two values something follows in the slots that both have.
     """
-    slots = {}
-    for key, worth in table.items():
-        name, one, other = key[0], key[1], key[-1]
-        if one in held:
-            slot = name if one == other else (name, 1, other)
-            slots.setdefault(slot, []).append((one, worth))
-        if other in held and one != other:
-            place = 1 if known.told_rules.get(name) in EITHER_WAY else 2
-            slots.setdefault((name, place, one), []).append((other, worth))
+    name, one, other = key[0], key[1], key[-1]
+    if one == other:
+        return [(name, one)] if one in held else []
+    slots = [((name, 1, other), one)] if one in held else []
+    if other in held:
+        place = 1 if known.told_rules.get(name) in EITHER_WAY else 2
+        slots.append(((name, place, one), other))
     return slots
 
 

@@ -1,6 +1,7 @@
 """Watches of a loop alone: what is so whenever a run comes to a place."""
 
 from unknowncalls.alone import Watch
+from unknowncalls.trials import impossible_pairs
 
 
 class EqualWatch(Watch):
@@ -30,14 +31,17 @@ class UnlikeWatch(Watch):
     def __init__(self, place, sources):
         self.pairs = None
         self._place = place
+        self._choices = sources
         self._all = [(one, other) for at, one in enumerate(sources) for other in sources[at + 1:]]
 
     def come(self, run, step):
         """Leaves out the pairs that can be equal here."""
         if step[1] == self._place:
-            env, known = run.envs[run.side], run.known
+            known, env = run.known, run.envs[run.side]
+            leads = {source: known.leads[env[source]] for source in self._choices}
+            found = {pair: True for pair in impossible_pairs(known, {lead: True for lead in leads.values()})}
             before = self._all if self.pairs is None else self.pairs
-            self.pairs = [(one, other) for one, other in before if not known.can_be_equal(env[one], env[other])]
+            self.pairs = [pair for pair in before if _are_unlike(known, found, [leads[source] for source in pair])]
 
 
 class OrderWatch(Watch):
@@ -90,3 +94,9 @@ class PlaceWatch(Watch):
         """Keeps the answers that are not impossible."""
         for truth in truths:
             self.truths.setdefault(place, {})[truth] = True
+
+
+def _are_unlike(known, found, leads):
+    """Whether two leaders are known unlike, or are a pair that was found impossible."""
+    low, high = sorted(leads)
+    return known.unlikes[low] >> high & 1 == 1 or (low, high) in found

@@ -112,5 +112,5 @@ def _needless(loop, watch):
 
 
 def _settled(loop, watch):
-    rows = [(place, list(watch.truths.get(place, {}))) for place in loop.places()]
+    rows = [(place, list(watch.answers.get(place, {}))) for place in loop.places()]
     return {place: truths[0] for place, truths in rows if len(truths) == 1}

@@ -69,13 +69,13 @@ class OrderWatch(Watch):
 class PlaceWatch(Watch):
     """What is so at all places.
 
-    truths tells the answers at the ifs that runs come to, holding, for the calls that runs come to, the
+    answers tells those at the ifs that runs come to, holding, for the calls that runs come to, the
     sources that hold their value already whenever one does.
     """
 
     def __init__(self, loop):
         self.is_come_to = {}
-        self.truths = {}
+        self.answers = {}
         self.holding = {}
         self._loop = loop
 
@@ -93,7 +93,7 @@ class PlaceWatch(Watch):
     def answered(self, place, truths):
         """Keeps the answers that are not impossible."""
         for truth in truths:
-            self.truths.setdefault(place, {})[truth] = True
+            self.answers.setdefault(place, {})[truth] = True
 
 
 def _are_unlike(known, found, leads):

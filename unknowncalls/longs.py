@@ -38,9 +38,9 @@ class Long:
         counts = {}
         for deed in self._begin + self._end:
             counts[deed] = counts.get(deed, 0) + 1
-        for row, visits in zip(self._moves.tables, self._visits()):
-            for move, times in zip(row, visits):
-                for deed in move[2] if times else []:
+        for dones, visits in zip(self._moves.dones, self._visits()):
+            for done, times in zip(dones, visits):
+                for deed in done if times else ():
                     counts[deed] = counts.get(deed, 0) + times
         return {deed: counts[deed] for deed in sorted(counts)}
 
@@ -64,7 +64,7 @@ class Long:
 
     def _visits(self):
         """For each item how often it is read in each state."""
-        visits = [[0 for _ in row] for row in self._moves.tables]
+        visits = [[0 for _ in row] for row in self._moves.behinds]
         for part in self._parts:
             part.visit(visits)
         return visits

@@ -4,12 +4,14 @@
 class Moves:
     """The states that a loop comes to, numbered; each turn from a state with an item is done once.
 
-    tables has for each item a list with the number of the state behind, how many deeds are done, and
-    these deeds, for each state from which this item was read.
+    For each item there are lists with what is so of a turn from each state: behinds has the number of the
+    state behind it, -1 where none was done, deed_counts tells how many deeds it does, dones has these deeds.
     """
 
     def __init__(self, doing, size):
-        self.tables = [[] for _ in range(size)]
+        self.behinds = [[] for _ in range(size)]
+        self.deed_counts = [[] for _ in range(size)]
+        self.dones = [[] for _ in range(size)]
         self._doing = doing
         self._states = []
         self._numbers = {}
@@ -21,8 +23,10 @@ class Moves:
         if state not in self._numbers:
             self._numbers[state] = len(self._states)
             self._states.append(state)
-            for row in self.tables:
-                row.append(None)
+            for item in range(len(self.behinds)):
+                self.behinds[item].append(-1)
+                self.deed_counts[item].append(0)
+                self.dones[item].append(())
         return self._numbers[state]
 
     def state(self, number):
@@ -33,25 +37,31 @@ class Moves:
         """The number of the state behind a row of items, and how many deeds are done on the way."""
         known = self._through.setdefault(items, {})
         if number not in known:
-            state, many, rows = number, 0, self.tables
+            state, many, behinds, counts = number, 0, self.behinds, self.deed_counts
             for item in items:
-                move = rows[item][state]
-                if move is None:
-                    move = self._turn(state, item)
-                state, more, _ = move
-                many += more
+                behind = behinds[item][state]
+                if behind < 0:
+                    behind = self._turn(state, item)
+                many += counts[item][state]
+                state = behind
             known[number] = (state, many)
         return known[number]
 
     def _turn(self, number, item):
-        """Does a turn for the first time; just the same was done if what matters there is the same."""
+        """Does a turn for the first time; just the same was done if what matters there is the same.
+
+        Returns the number of the state behind.
+        """
         state = self._states[number]
         view = (self._doing.view("turn", state), item)
         if view not in self._known:
             _, done, behind = self._doing.section("turn", state, item, [])
-            self._known[view] = (self.number(behind), len(done), done)
-        self.tables[item][number] = self._known[view]
-        return self._known[view]
+            self._known[view] = (self.number(behind), tuple(done))
+        behind, done = self._known[view]
+        self.behinds[item][number] = behind
+        self.deed_counts[item][number] = len(done)
+        self.dones[item][number] = done
+        return behind
 
 
 class Passes:
@@ -93,22 +103,23 @@ class Passes:
         number -= self._counts[low]
         state = self._starts[low]
         for item in self._items:
-            state, many, done = self._moves.tables[item][state]
-            if number < many:
+            done = self._moves.dones[item][state]
+            if number < len(done):
                 return done[number]
-            number -= many
+            number -= len(done)
+            state = self._moves.behinds[item][state]
         return None
 
     def visit(self, visits):
-        """Adds how often each item is read in each state, to lists like the tables of the moves."""
-        rows = self._moves.tables
+        """Adds how often each item is read in each state, to lists like those of the moves."""
+        behinds = self._moves.behinds
         for index, start in enumerate(self._starts):
             times, state = 1, start
             if index >= self._spot:
                 times += self._rounds + (1 if index - self._spot < self._rest else 0)
             for item in self._items:
                 visits[item][state] += times
-                state = rows[item][state][0]
+                state = behinds[item][state]
 
     def _around(self):
         """How many deeds are done on the way around."""

@@ -262,6 +262,9 @@ class DrawnTest(EditCase):
             names = chance.choice(DRAWN)
             one = drawn.Drawing(chance, names, ("x", "y", "z")[:chance.randrange(1, 4)], chance.choice([2, 3, 4])).loop(
                 2, 2, chance.randrange(3) == 0)
+            if chance.randrange(5) == 0:
+                one = chance.choice([drawn.sharing, drawn.ordering])(chance)
+                names = one.names
             quiet = Loop(names, one.section("start"), without_deeds(one.section("turn")),
                          [do("t", name) for name in one.lasting() if names.deeds().get("t") == 1][:2] or one.section("end"))
             tests = [test for test, many in names.tests().items() if many == 1]

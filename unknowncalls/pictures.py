@@ -16,7 +16,7 @@ def picture_behind(run):
     calls, shares = left_behind(known, groups)
     squeezed = squeezed_behind(known, groups)
     numbers = {lead: number for number, lead in enumerate(groups)}
-    said = [(key, truth) for key, truth in known.said.items() if all([value in numbers for value in key[1:]])]
+    said = [(key, truth) for key, truth in known.said.items() if key[1] in numbers and key[-1] in numbers]
     held = sum([1 << lead for lead in groups])
     pairs = [(numbers[one], numbers[other]) for one in groups for other in bits(known.unlikes[one] & held)]
     order = [(numbers[one], numbers[other], known.overs[one] >> other & 1 == 1)

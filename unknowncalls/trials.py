@@ -30,8 +30,10 @@ def _opposed(known, held):
         for slot, value in _slots_of(known, key, held):
             masks[truth][slot] = masks[truth].get(slot, 0) | 1 << value
     for slot, others in masks[False].items():
-        for one in bits(masks[True].get(slot, 0)):
-            for other in bits(others & ~known.unlikes[one]):
+        mask = masks[True].get(slot, 0)
+        for one in bits(mask) if mask else ():
+            more = others & ~known.unlikes[one]
+            for other in bits(more) if more else ():
                 found[_ascending(one, other)] = True
     for pair, truth, word in _both_ways(known.said, held):
         if truth != word and not known.unlikes[pair[0]] >> pair[1] & 1:

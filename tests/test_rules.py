@@ -24,6 +24,7 @@ BARRED = set(
 STATEMENTS = (
     ast.FunctionDef, ast.ClassDef, ast.Assign, ast.AugAssign, ast.If, ast.While, ast.For, ast.Return, ast.Break,
     ast.Continue, ast.Pass, ast.Raise, ast.Assert, ast.Delete, ast.Try, ast.Expr, ast.ImportFrom)
+ERRORS = {node.name for node in TREES["errors.py"].body if isinstance(node, ast.ClassDef)}
 WORDS = {"item", "items", "keys", "values", "pop", "update", "append", "clear", "extend", "insert", "remove", "reverse",
          "setdefault", "sort", "args", "encode", "decode", "hex", "format"} - {"item"}
 
@@ -41,6 +42,31 @@ def bound(tree):
 def attributes():
     """The attributes that classes assign to their objects."""
     return {node.attr for _, node in nodes(ast.Attribute) if isinstance(node.ctx, ast.Store)}
+
+
+def bad_stars(tree):
+    """The calls in which something stands behind a star, or beside or behind two, that may not stand there."""
+    return [node for node in ast.walk(tree) if isinstance(node, ast.Call) and not are_right_stars(node)]
+
+
+def are_right_stars(call):
+    at = [index for index, row in enumerate(call.args) if isinstance(row, ast.Starred)]
+    doubles = [row.value for row in call.keywords if row.arg is None]
+    if not at and not doubles:
+        return True
+    if isinstance(call.func, ast.Name) and call.func.id in {*dir(builtins), *ERRORS} - {"max", "min", "zip"}:
+        return False
+    if doubles and (len(call.keywords) > 1 or isinstance(doubles[0], ast.Constant) or not is_plain(doubles[0], ())):
+        return False
+    behind = call.args if doubles else call.args[at[0]:]
+    return all(is_plain(row.value if isinstance(row, ast.Starred) else row) for row in behind)
+
+
+def is_plain(node, kinds=(ast.List, ast.Tuple, ast.Dict)):
+    """Whether this is a name, an attribute off a name, a literal, or a list, tuple or dict of these."""
+    if isinstance(node, kinds):
+        return all(is_plain(row) for row in ast.iter_child_nodes(node) if not isinstance(row, ast.expr_context))
+    return isinstance(node, (ast.Name, ast.Constant)) or isinstance(node, ast.Attribute) and isinstance(node.value, ast.Name)
 
 
 def methods():
@@ -113,11 +139,17 @@ class RuleTest(unittest.TestCase):
             self.assertNotIsInstance(node.op, (ast.Div, ast.MatMult, ast.Pow), (name, node.lineno))
 
     def test_stars(self):
-        plain = (ast.Name, ast.Attribute, ast.Constant, ast.List, ast.Tuple, ast.Dict)
-        for name, call in nodes(ast.Call):
-            at = [index for index, row in enumerate(call.args) if isinstance(row, ast.Starred)]
-            for row in call.args[at[0] + 1:] if at else []:
-                self.assertIsInstance(row, plain, (name, call.lineno))
+        for name, tree in TREES.items():
+            self.assertEqual([node.lineno for node in bad_stars(tree)], [], name)
+
+    def test_stars_that_are_found(self):
+        right = ["f(*xs)", "f(k, *xs)", "f(*xs, n, sep=n)", "f(**d)", "f(**box.more)", "max(*xs, key=len)", "box.f(*box.rows)",
+                 "f(g(1), *[x, (1, box.y)])", "f(*{1: x})", "f(x for x in xs)", "f([*g(1)])", "f(*xs, *ys)", "f(1, **d)"]
+        wrong = ["f(*[x for x in xs])", "f(names, *[g(word) for word in words])", "f(*g(1))", "f(*box.inner.rows)", "f(*xs[1:])",
+                 "f(*xs, g(1))", "f(*[x, g(1)])", "f(*[*xs])", "f(*(x for x in xs))", "f(**g(1))", "f(**{1: 2})", "f(g(1), **d)",
+                 "f(k=1, **d)", "f(**d, **e)", "f(*(xs or ys))", "print(*xs)", "sorted(*xs)", "Forgotten(*xs)", "g(f(*xs[1:]))"]
+        self.assertEqual([text for text in right if bad_stars(ast.parse(text))], [])
+        self.assertEqual([text for text in wrong if not bad_stars(ast.parse(text))], [])
 
     def test_raised(self):
         for name, node in nodes(ast.Raise):

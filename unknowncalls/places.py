@@ -3,6 +3,7 @@
 from unknowncalls.alone import read_place, watch_alone
 from unknowncalls.errors import NoTest
 from unknowncalls.loops import Loop
+from unknowncalls.steps import SECTIONS
 from unknowncalls.watches import EqualWatch, OrderWatch, PlaceWatch, UnlikeWatch
 from unknowncalls.words import as_text
 
@@ -49,7 +50,8 @@ def mended(loop):
         before = loop
         watch = _watched(loop)
         mending = Mending(watch.is_come_to, _needless(loop, watch), _settled(loop, watch))
-        loop = Loop(loop.names, *[mending.mended((word,), loop.section(word)) for word in ("start", "turn", "end")])
+        start, turn, end = [mending.mended((word,), loop.section(word)) for word in SECTIONS]
+        loop = Loop(loop.names, start, turn, end)
     return loop
 
 

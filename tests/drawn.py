@@ -220,6 +220,23 @@ def ordering(chance):
     return Loop(names, begun(chance, names, registers), block(chance.randrange(2, 5), 2), [])
 
 
+def reckoning(chance):
+    """Loops that call functions of constants, of kept values and of what was called, again and again."""
+    names = chance.choice([names for names in NAMES + SHARING + ORDERING if names.constants and "d" in names.deeds()])
+    registers = ["x", "y", "u"][:chance.randrange(1, 4)]
+    drawing = Drawing(chance, names, registers)
+    turn = []
+    for _ in range(chance.randrange(2, 6)):
+        if chance.randrange(6):
+            name, target = chance.choice(list(names.functions())), chance.choice("vvvwx")
+            put = [statement[1] for statement in turn if statement[0] == "call"]
+            sources = [chance.choice([*names.constants, *registers, *put, *put, *put]) for _ in range(names.functions()[name])]
+            turn.append(("call", target, name, *sources))
+        else:
+            turn.append(drawing.statement("turn", set(registers), 1)[0])
+    return Loop(names, begun(chance, names, registers), turn, [])
+
+
 def pair(chance):
     """Two loops with equal names: often the same one, or one that is a little altered."""
     kind = chance.randrange(6)

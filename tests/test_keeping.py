@@ -2,6 +2,7 @@
 
 import itertools
 import random
+import sys
 
 from tests import drawn
 from tests.common import LEAVE, Case, ask, call, do, maker, put, same
@@ -148,6 +149,57 @@ class RemedyTest(Case):
             kinds[kind] = kinds.get(kind, 0) + 1
         self.assertGreater(min(kinds[kind] for kind in (0, 1, 2, None, "none")), 1, kinds)
 
+    def test_drawn_that_reckon_again(self):
+        chance = random.Random(53)
+        kinds = {}
+        for _ in range(300):
+            one = drawn.reckoning(chance)
+            other = chance.choice([one, Loop(one.names, [], [], [])])
+            told = remedy(one, other)
+            self.assertEqual(told, plain_remedy(one, other))
+            kind = None if told is None else len(told)
+            kinds[kind] = kinds.get(kind, 0) + 1
+        self.assertGreater(min(kinds[kind] for kind in (0, 1, 2, None)), 5, kinds)
+
+    def test_chains(self):
+        remedies = {1: [], 2: [(1, ("turn", 0))], 3: [(1, ("turn", 0)), (1, ("turn", 1))]}
+        for many in (1, 2, 3, 4, 9):
+            one, wanted = chain(many), remedies.get(many)
+            self.check(one, one, wanted)
+            self.check(one, chain(many), wanted)
+            self.check(one, loop(), wanted)
+            self.check(loop(), one, wanted and [(2, place) for _, place in wanted])
+            self.check(one, chain(many + 1), remedies.get(many + 1))
+
+    def test_a_gone_value_that_is_held_for_a_while(self):
+        # f(a) is known as long as the other call that gave the same: where u is kept until this one goes, it is no more.
+        names = Names(["a", "b", "c", "e"], {"f": 1, "g": 1}, {}, {"t": 1, "d": 0}, {}, [],
+                      [("a", "b"), ("a", "c"), ("a", "e"), ("b", "c"), ("b", "e"), ("c", "e")])
+        one = Loop(names, [put("s", "a"), put("k", "a"), ("do", "y", "d")], [
+            call("u", "f", "k"),
+            same("s", "a",
+                 [call("v", "g", "y"), same("u", "v", [], [LEAVE]), put("s", "b"), put("k", "item")],
+                 [put("k", "item"), same("s", "b", [put("y", "item"), put("s", "c")], [
+                     same("s", "c", [call("w", "f", "a"), do("t", "w"), put("s", "e")])])])], [])
+        none = Loop(names, [], [], [])
+        self.assertEqual(forgetting(one, none)[:2], (1, ("turn", 1, "else", 1, "else", 0, "then", 0)))
+        self.check(one, none, [(1, ("turn", 0))])
+        self.check(one, one, [(1, ("turn", 0))])
+        self.assertEqual(plain_remedy(one, none), [(1, ("turn", 0))])
+
+    def test_it_takes_as_long_as_few_walks(self):
+        many = steps(forgetting, chain(4), chain(4))
+        self.assertLess(steps(remedy, chain(4), chain(4)), 25 * many)
+        self.assertLess(steps(remedy, chain(1), chain(1)), 3 * many)
+        self.assertLess(steps(remedy, chain(18), chain(18)), 60 * many)
+        # With many ways through a section, a way that forgets is not looked for where one is known.
+        registers = ["x", "y", "z", "u", "v"]
+        calls = [(name, source) for name in ("f", "g") for source in ("a", "b", "x")]
+        one = loop([("do", name, "d") for name in registers], [
+            ask("p", [source], [call("w", *first), call("w", first[0], "w")], [call("w", *first)])
+            for source, first in zip(registers, calls)])
+        self.assertLess(steps(remedy, one, one), 6 * steps(forgetting, one, one))
+
     def test_errors(self):
         forgets = bare([("do", "x", "d")], [call("u", "f", "x"), call("u", "f", "u")])
         self.raised(NoConstant, remedy, forgets, bare())
@@ -165,6 +217,23 @@ class RemedyTest(Case):
     def test_new_each_time(self):
         remedy(FORGETS, FORGETS).clear()
         self.assertEqual(remedy(FORGETS, FORGETS), [(1, ("turn", 0))])
+
+
+def chain(many):
+    """The loop that calls f of a, then f of the value, and so on, and tells the last one."""
+    names = ["a", *(f"v{letter}" for letter in "abcdefghijklmnopqrstuvwxyz"[:many])]
+    return loop([], [call(later, "f", first) for first, later in zip(names, names[1:])] + [do("t", names[-1])])
+
+
+def steps(work, *told):
+    """How many functions are called while a call is done: alike whenever it is asked."""
+    events = []
+    sys.setprofile(lambda frame, event, argument: events.append(event))
+    try:
+        work(*told)
+    finally:
+        sys.setprofile(None)
+    return sum(event in ("call", "c_call") for event in events)
 
 
 class Whole(int):

@@ -5,7 +5,13 @@ from unknowncalls.words import LETTERS, as_name
 
 def free_names(letter, names, taken, many):
     """The first names of two letters, from this one and an a on, that are no names and not taken."""
-    used = [*names.constants, *names.functions(), *names.tests(), *names.deeds(), *taken]
-    firsts = LETTERS[LETTERS.index(letter):]
-    pairs = [first + second for first in firsts for second in LETTERS]
-    return [pair for pair in pairs if as_name(pair) is not None and pair not in used][:many]
+    rows = (names.constants, names.functions(), names.tests(), names.deeds(), taken)
+    used = {name: True for row in rows for name in row}
+    found = []
+    for first in LETTERS[LETTERS.index(letter):]:
+        # There are hundreds of such names, and few of them are wanted.
+        if len(found) >= many:
+            break
+        pairs = [first + second for second in LETTERS]
+        found.extend([pair for pair in pairs if pair not in used and as_name(pair) is not None])
+    return found[:many]
